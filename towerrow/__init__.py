@@ -1,0 +1,1 @@
+"""Towerrow: discs on three pegs, by three rules."""
