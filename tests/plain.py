@@ -1,4 +1,7 @@
-"""A plain look at points [1] and [2], written apart from the program, for the tests to hold it against."""
+"""A plain look at points [1] and [2], and plain searches over all states.
+
+They are written apart from the program, for the tests to hold it against.
+"""
 
 import itertools
 
@@ -84,3 +87,62 @@ def mixed_state(discs, seed):
         seed = (seed * 48271) % 2147483647
         state.append(seed // 7 % 3)
     return state
+
+
+def fewest(rule, start):
+    """How many moves, the fewest, lead from a state to each other, by a walk through all of them."""
+    found = {tuple(start): 0}
+    edge = [start]
+    while edge:
+        beyond = []
+        for state in edge:
+            for disc, peg in all_moves(rule, state):
+                other = after(state, disc, peg)
+                if tuple(other) not in found:
+                    found[tuple(other)] = found[tuple(state)] + 1
+                    beyond.append(other)
+        edge = beyond
+    return found
+
+
+def fewest_to(rule, discs, peg):
+    """How many moves, the fewest, bring all discs to a peg, from each state: a walk back from there."""
+    ahead = {tuple(state): [] for state in states(discs)}
+    for state in states(discs):
+        for disc, goal in all_moves(rule, state):
+            ahead[tuple(after(state, disc, goal))].append(tuple(state))
+    last = (peg,) * discs
+    found = {last: 0}
+    edge = [last]
+    while edge:
+        beyond = []
+        for state in edge:
+            for other in ahead[state]:
+                if other not in found:
+                    found[other] = found[state] + 1
+                    beyond.append(other)
+        edge = beyond
+    return found
+
+
+def no_numbers():
+    """Values of many kinds, none of which is a whole number."""
+    kinds = [kind for kind in other_kinds() if isinstance(kind, bool) or not isinstance(kind, int)]
+    return kinds + ["", "1", [], [0], deep_list(), list_in_itself()]
+
+
+def no_pegs():
+    return no_numbers() + [3, 4, -1, -2, -3, 10 ** 5000, -(10 ** 5000)]
+
+
+def no_rules():
+    texts = ["", "Free", "LINE", " free", "free ", "free\n", "line\0", "fre", "lines", "freeline", "ring", "0", "-"]
+    return other_kinds() + texts + [[], ["free"], list(RULES), deep_list(), list_in_itself(), 0, 1, 2]
+
+
+def no_states():
+    """What is no state: no list, or one with a part that is no peg, at the first, a middle and the last place."""
+    kinds = other_kinds() + [0, 1, "", "free", "0", ((0,),), list_in_itself()]
+    for part in no_pegs():
+        kinds += [[part], [part, 0, 1], [0, part, 1], [0, 1, part], [0] * 300 + [part]]
+    return kinds

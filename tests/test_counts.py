@@ -1,23 +1,8 @@
 import unittest
 
-from plain import RULES, after, all_moves, states
-from towerrow.counts import lone_moves, tower_moves, tower_rows
-
-
-def fewest(rule, start):
-    """How many moves, the fewest, lead from a state to each other, by a walk through all of them."""
-    found = {tuple(start): 0}
-    edge = [start]
-    while edge:
-        beyond = []
-        for state in edge:
-            for disc, peg in all_moves(rule, state):
-                other = after(state, disc, peg)
-                if tuple(other) not in found:
-                    found[tuple(other)] = found[tuple(state)] + 1
-                    beyond.append(other)
-        edge = beyond
-    return found
+from plain import RULES, WAYS, fewest, states
+from towerrow.counts import first_peg, lone_moves, row_with_one_fewer, row_with_one_more, third_peg, tower_moves
+from towerrow.counts import ROW_WITHOUT_DISCS, tower_row
 
 
 class Towers(unittest.TestCase):
@@ -56,11 +41,35 @@ class Towers(unittest.TestCase):
         self.assertEqual([tower_moves("round", discs, 1, 2) for discs in range(8)], [0, 1, 5, 15, 43, 119, 327, 895])
         self.assertEqual([tower_moves("round", discs, 1, 0) for discs in range(8)], [0, 2, 7, 21, 59, 163, 447, 1223])
 
-    def test_rows_are_one_more_than_the_discs_and_new(self):
-        rows = tower_rows("line", 4)
-        self.assertEqual(rows, [(0, 0, 0), (0, 1, 2), (0, 4, 8), (0, 13, 26), (0, 40, 80)])
-        rows.clear()
-        self.assertEqual(len(tower_rows("line", 4)), 5)
+    def test_rows(self):
+        self.assertEqual([tower_row("line", discs) for discs in range(5)],
+                         [(0, 0, 0), (0, 1, 2), (0, 4, 8), (0, 13, 26), (0, 40, 80)])
+
+    def test_rows_up_and_down(self):
+        for rule in RULES:
+            row = ROW_WITHOUT_DISCS
+            self.assertEqual(row, tower_row(rule, 0))
+            for discs in range(1, 500):
+                wider = row_with_one_more(rule, row)
+                self.assertEqual(row_with_one_fewer(rule, wider), row)
+                row = wider
+            self.assertEqual(row, tower_row(rule, 499))
+
+
+class Pegs(unittest.TestCase):
+    def test_the_first_peg_of_a_lone_disc(self):
+        for rule in RULES:
+            for start in range(3):
+                for goal in range(3):
+                    if start != goal:
+                        peg = first_peg(rule, start, goal)
+                        self.assertIn((start, peg), WAYS[rule])
+                        self.assertEqual(lone_moves(rule, peg, goal), lone_moves(rule, start, goal) - 1)
+
+    def test_the_third_peg(self):
+        for one, other, third in ((0, 1, 2), (0, 2, 1), (1, 2, 0)):
+            self.assertEqual(third_peg(one, other), third)
+            self.assertEqual(third_peg(other, one), third)
 
 
 if __name__ == "__main__":

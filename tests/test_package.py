@@ -18,7 +18,7 @@ def trees():
 class Sources(unittest.TestCase):
     def test_the_files_of_the_stage_are_there(self):
         names = [name for name, tree in trees()]
-        for name in ("__init__.py", "errors.py", "states.py", "counts.py"):
+        for name in ("__init__.py", "errors.py", "states.py", "counts.py", "ways.py", "pairs.py", "texts.py"):
             self.assertIn(name, names)
 
     def test_only_own_modules_are_imported(self):

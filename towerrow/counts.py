@@ -1,8 +1,11 @@
-"""How many moves, the fewest, bring a whole tower from one peg to another.
+"""How a lone disc goes from peg to peg, and how many moves, the fewest, bring a whole tower there.
 
-By each rule this hangs only on how many discs there are and on how many moves a
-lone disc would need: none, one (the tower goes near) or two (it goes far).
+By each rule the latter hangs only on how many discs there are and on how many moves a
+lone disc would need: none, one (the tower goes near) or two (it goes far). A row holds,
+by the moves of a lone disc, those of a tower.
 """
+
+ROW_WITHOUT_DISCS = (0, 0, 0)
 
 
 def lone_moves(rule, start, goal):
@@ -15,12 +18,17 @@ def lone_moves(rule, start, goal):
     return (goal - start) % 3
 
 
-def tower_rows(rule, discs):
-    # Row n is of a tower of n discs; in it, by lone_moves, stand the tower's own moves.
-    rows = [(0, 0, 0)]
-    for lesser in range(discs):
-        rows.append(row_with_one_more(rule, rows[lesser]))
-    return rows
+def first_peg(rule, start, goal):
+    # The peg to which a lone disc goes first; start and goal are two pegs.
+    if rule == "round":
+        return (start + 1) % 3
+    if rule == "line" and abs(goal - start) == 2:
+        return 1
+    return goal
+
+
+def third_peg(one, other):
+    return 3 - one - other
 
 
 def row_with_one_more(rule, row):
@@ -35,5 +43,24 @@ def row_with_one_more(rule, row):
     return (0, far + 1 + far, far + 1 + near + 1 + far)
 
 
+def row_with_one_fewer(rule, row):
+    # row_with_one_more turned back, so that a walk from the greatest disc down need not keep
+    # all rows: with very many discs they would fill the memory.
+    near = row[1]
+    far = row[2]
+    if rule == "free":
+        return (0, near // 2, near // 2)
+    if rule == "line":
+        return (0, near - 1 - far // 3, far // 3)
+    return (0, far - 1 - near, near // 2)
+
+
+def tower_row(rule, discs):
+    row = ROW_WITHOUT_DISCS
+    for lesser in range(discs):
+        row = row_with_one_more(rule, row)
+    return row
+
+
 def tower_moves(rule, discs, start, goal):
-    return tower_rows(rule, discs)[discs][lone_moves(rule, start, goal)]
+    return tower_row(rule, discs)[lone_moves(rule, start, goal)]
